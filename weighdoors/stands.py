@@ -54,6 +54,7 @@ def open_doors(hall, stand):
 
 def lacks(hall, stand, door, *, goer=None):
     """Tell the rows of a door that aren't met, each with what its room bears, without a goer where one is told."""
+    # Asked for its refusal alone, which goes ahead of the goer's.
     hall.door(door)
     if goer is not None and goer not in hall.walkers():
         raise NoName(goer)
