@@ -36,6 +36,14 @@ class OrderTest(unittest.TestCase):
         self.assertEqual(hall.door("slide"), ("tower", "cave", "on", ()))
         self.assertEqual(hall.door("trap"), ("cave", "yard", "on", (("tower", 4, 4),)))
 
+    def test_the_doors_that_lead_from_a_room(self):
+        hall = make_hall()
+        self.assertEqual(hall.leads("cave"), [("gate", "yard"), ("trap", "yard")])
+        self.assertEqual(hall.leads("tower"), [("arch", "yard"), ("slide", "cave")])
+        self.assertEqual(hall.leads("yard"), [("arch", "tower"), ("gate", "cave")])
+        hall.leads("yard").clear()
+        self.assertEqual(len(hall.leads("yard")), 2)
+
     def test_hefts_and_hands(self):
         hall = make_hall()
         self.assertEqual([hall.heft(name) for name in ("axe", "ball", "ann", "bob")], [3, 4, 7, 5])

@@ -21,8 +21,7 @@ def deeds(hall, stand):
     turn, rooms, places = stand
     walker = hall.walkers()[turn]
     borne = loads(hall, stand, walker)
-    goes = [("go", door) for door in hall.doors()
-            if room_behind(hall, door, rooms[turn]) is not None and not unmet_rows(hall, door, borne)]
+    goes = [("go", door) for door, _ in hall.leads(rooms[turn]) if not unmet_rows(hall, door, borne)]
     lays = [("lay", stone) for stone, place in zip(hall.stones(), places) if place == walker]
     lifts = []
     if len(lays) < hall.hands(walker):
@@ -32,11 +31,9 @@ def deeds(hall, stand):
 
 def room_behind(hall, door, room):
     """Tell the room into which a door leads from a room, None where it doesn't lead from there."""
-    one, other, way, _ = hall.door(door)
-    if room == one:
-        return other
-    if room == other and way == "both":
-        return one
+    for name, behind in hall.leads(room):
+        if name == door:
+            return behind
     return None
 
 
@@ -45,6 +42,11 @@ def done(hall, stand, deed):
     why = why_not(hall, stand, deed)
     if why is not None:
         raise NoDeed(why)
+    return stand_behind(hall, stand, deed)
+
+
+def stand_behind(hall, stand, deed):
+    """Tell the stand behind a deed of which it is known that it can be done."""
     turn, rooms, places = stand
     rooms = list(rooms)
     places = list(places)

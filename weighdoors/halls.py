@@ -10,6 +10,7 @@ class Hall:
         self._rooms = sorted(rooms)
         self._doors = {name: kept_door(one, other, way, rows)
                        for name, one, other, way, rows in sorted(doors, key=lambda door: door[0])}
+        self._leads = leads_of(self._rooms, self._doors)
         self._stones = sorted([name for name, _ in stones])
         # Kept as a list: a dict is equal to one in another order, and the order of turns counts.
         self._walkers = [name for name, _, _ in walkers]
@@ -47,6 +48,10 @@ class Hall:
         """Tell of a door: (one room, other room, way, rows)."""
         return named(self._doors, name)
 
+    def leads(self, room):
+        """Tell the doors that lead from a room, rising, each (door, room behind)."""
+        return list(self._leads[room])
+
     def heft(self, name):
         """Tell the heft of a stone or a walker."""
         return named(self._hefts, name)
@@ -62,6 +67,16 @@ def kept_door(one, other, way, rows):
         one, other = sorted([one, other])
     kept = sorted([tuple(row) for row in rows], key=lambda row: row[0])
     return one, other, way, tuple(kept)
+
+
+def leads_of(rooms, doors):
+    """Tell of each room the doors that lead from it, rising, each with the room behind."""
+    leads = {room: [] for room in rooms}
+    for name, (one, other, way, _) in doors.items():
+        leads[one].append((name, other))
+        if way == "both":
+            leads[other].append((name, one))
+    return leads
 
 
 def named(table, name):
