@@ -16,7 +16,33 @@ FUNCTIONS = {
     "deeds": {"deeds": "(hall, stand)", "done": "(hall, stand, deed)", "swung": "(hall, stand, deed)"},
     "ways": {"played": "(hall, stand, way)", "show_way": "(way)", "read_way": "(text)"},
     "backs": {"way_back": "(hall, stand, way)"},
+    "goals": {"need_goal": "(hall, thing)", "met": "(hall, stand, goal)"},
+    "reaching": {"reach": "(play, spot, *, most=2000)"},
+    "papers": {
+        "bars": "(play, paper)", "forces": "(play, paper)",
+        "reply": "(play, paper, spot)", "foil": "(play, paper, spot)",
+    },
+    "values": {
+        "value": "(play, spot, *, most=2000)", "barring": "(play, spot, *, most=2000)",
+        "forcing": "(play, spot, *, most=2000)", "cheapest": "(play, spot, *, most=2000)",
+    },
+    "counting": {
+        "count_ways": "(play, spot, length)", "way_at": "(play, spot, length, number)",
+        "number_of": "(play, spot, way)",
+    },
+    "fronts": {"front": "(hall, stand, goal, *, most=2000)"},
+    "fences": {
+        "is_fence": "(hall, stand, thing)", "fence": "(hall, stand)", "rounds": "(hall, stand)",
+        "bar": "(hall, stand, goal)",
+    },
+    "changes": {
+        "walled": "(hall, door)", "opened": "(hall, door)", "rowed": "(hall, door, rows)",
+        "hefted": "(hall, name, heft)", "hollowed": "(hall, stone)", "ordered": "(hall, walkers)",
+        "beside": "(one, other)", "beside_stand": "(one, stand, other, second)",
+    },
 }
+
+SPOTS = {"is_spot": "(self, thing)", "met": "(self, spot)", "ours": "(self, spot)", "moves": "(self, spot)"}
 
 CLASSES = {
     "halls": {"Hall": {
@@ -24,6 +50,10 @@ CLASSES = {
         "rooms": "(self)", "doors": "(self)", "stones": "(self)", "walkers": "(self)",
         "door": "(self, name)", "heft": "(self, name)", "hands": "(self, walker)",
     }},
+    "plays": {
+        "Play": {"__init__": "(self, hall, goal, *, prices=(1, 1, 1, 1), side=None, still=())", **SPOTS},
+        "Rationed": {"__init__": "(self, hall, goal, layings)", **SPOTS},
+    },
 }
 
 
