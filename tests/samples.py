@@ -28,6 +28,19 @@ def make_hall():
     )
 
 
+# Of make_hall.
+TEXT = """room cave
+room tower
+room yard
+door arch tower yard both
+door gate cave yard both cave 3 - yard 0 12
+door slide tower cave on
+door trap cave yard on tower 4 4
+stone axe 3
+stone ball 4
+walker bob 5 1
+walker ann 7 2"""
+
 # Of make_hall: bob in the cave with the axe, ann in the yard, the ball in the cave; it is ann's turn.
 STAND = (1, ("cave", "yard"), ("bob", "cave"))
 

@@ -4,7 +4,7 @@ import unittest
 from itertools import permutations
 from random import Random
 
-from samples import ANYTHING, STAND, make_hall, some_pairs, some_stand
+from samples import ANYTHING, STAND, TEXT, make_hall, some_pairs, some_stand
 from slowplays import graph_of, slow_moves, some_cases, some_goal
 from weighdoors.changes import beside, beside_stand, hefted, hollowed, opened, ordered, rowed, walled
 from weighdoors.errors import NoName
@@ -14,18 +14,6 @@ from weighdoors.plays import Play
 from weighdoors.reaching import reach
 from weighdoors.stands import is_stand
 from weighdoors.values import value
-
-TEXT = """room cave
-room tower
-room yard
-door arch tower yard both
-door gate cave yard both cave 3 - yard 0 12
-door slide tower cave on
-door trap cave yard on tower 4 4
-stone axe 3
-stone ball 4
-walker bob 5 1
-walker ann 7 2"""
 
 
 class ChangeTest(unittest.TestCase):

@@ -3,22 +3,10 @@
 import random
 import unittest
 
-from samples import ANYTHING, great_hall, make_hall, some_hall
+from samples import ANYTHING, TEXT, great_hall, make_hall, some_hall
 from weighdoors.errors import NoText
 from weighdoors.halls import Hall
 from weighdoors.halltexts import read_hall, show_hall
-
-TEXT = """room cave
-room tower
-room yard
-door arch tower yard both
-door gate cave yard both cave 3 - yard 0 12
-door slide tower cave on
-door trap cave yard on tower 4 4
-stone axe 3
-stone ball 4
-walker bob 5 1
-walker ann 7 2"""
 
 
 def changed(at, *rows):

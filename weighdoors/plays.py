@@ -3,8 +3,7 @@
 from weighdoors.bounds import STEPS
 from weighdoors.deeds import WAIT, deeds, stand_behind
 from weighdoors.goals import met
-from weighdoors.names import is_whole
-from weighdoors.stands import is_stand
+from weighdoors.stands import is_stand, is_stand_with
 
 # In the order in which prices are told.
 WORDS = ("go", "lift", "lay", "wait")
@@ -20,6 +19,14 @@ class Play:
         # By the order of turns, as spots tell whose turn it is.
         self._ours = [side is None or walker in side for walker in hall.walkers()]
         self._still = [walker in still for walker in hall.walkers()]
+
+    def hall(self):
+        """Tell the hall."""
+        return self._hall
+
+    def goal(self):
+        """Tell the goal."""
+        return self._goal
 
     def is_spot(self, thing):
         """Tell of anything whether it is a spot."""
@@ -49,10 +56,7 @@ class Rationed:
 
     def is_spot(self, thing):
         """Tell of anything whether it is a spot."""
-        if not isinstance(thing, tuple) or len(thing) != 2:
-            return False
-        stand, left = thing
-        return is_whole(left) and 0 <= left <= self._layings and is_stand(self._hall, stand)
+        return is_stand_with(self._hall, thing, self._layings)
 
     def met(self, spot):
         """Tell whether the goal is met at a spot."""

@@ -19,6 +19,14 @@ def is_stand(hall, thing):
     return all([places.count(walker) <= hall.hands(walker) for walker in walkers])
 
 
+def is_stand_with(hall, thing, most):
+    """Tell of anything whether it is a tuple of a stand of the hall and a whole number from 0 to most."""
+    if not isinstance(thing, tuple) or len(thing) != 2:
+        return False
+    stand, number = thing
+    return is_whole(number) and 0 <= number <= most and is_stand(hall, stand)
+
+
 def are_places(thing, many, names):
     """Tell of anything whether it is a tuple of so many of these names."""
     return isinstance(thing, tuple) and len(thing) == many and all([place in names for place in thing])
