@@ -40,6 +40,24 @@ FUNCTIONS = {
         "hefted": "(hall, name, heft)", "hollowed": "(hall, stone)", "ordered": "(hall, walkers)",
         "beside": "(one, other)", "beside_stand": "(one, stand, other, second)",
     },
+    "hefts": {"is_rising": "(hall)", "least_heft": "(hall, stand, goal, stones, *, most=2000)"},
+    "doors": {
+        "by_door": "(hall, stand, goal, *, prices=(1, 1, 1, 1), most=2000)",
+        "parting": "(one, other, stand, *, most=2000)",
+    },
+    "lots": {
+        "lots": "(hall, stand, goal, word, *, most=2000)", "lot_paper": "(hall, stand, goal, word, lot, *, most=2000)",
+        "lot_holds": "(hall, stand, goal, word, lot, thing)", "covers": "(names, does, fails)",
+    },
+    "turnings": {
+        "turnings": "(hall, some, *, most=200)", "turned": "(hall, names)", "turned_stand": "(hall, names, stand)",
+        "turned_way": "(names, way)", "turned_goal": "(names, goal)", "is_turning": "(hall, thing)",
+    },
+    "folding": {"unfolded": "(folded, paper)"},
+    "mending": {"mended": "(hall, stand, goal, plan, *, most=2000)"},
+    "losses": {"lost": "(hall, stand, goal, way, *, most=2000)"},
+    "paring": {"pared": "(hall, stand, goal, way, *, most=2000)"},
+    "journals": {"show_book": "(book)", "read_book": "(text)"},
 }
 
 SPOTS = {"is_spot": "(self, thing)", "met": "(self, spot)", "ours": "(self, spot)", "moves": "(self, spot)"}
@@ -54,6 +72,16 @@ CLASSES = {
         "Play": {"__init__": "(self, hall, goal, *, prices=(1, 1, 1, 1), side=None, still=())", **SPOTS},
         "Rationed": {"__init__": "(self, hall, goal, layings)", **SPOTS},
     },
+    "folding": {"Folded": {"__init__": "(self, play, turnings)", **SPOTS, "least": "(self, stand)"}},
+    "mending": {"Mending": {"__init__": "(self, hall, goal, plan)", **SPOTS}},
+    "paring": {"Paring": {"__init__": "(self, hall, goal, plan)", **SPOTS}},
+    "book": {"Book": {
+        "__init__": "(self, hall, stand)", "__eq__": None, "hall_at": "(self, *, moment=None)",
+        "stand_at": "(self, *, moment=None)", "acts": "(self)", "do": "(self, deed)", "set_heft": "(self, name, heft)",
+        "set_rows": "(self, door, rows)", "wall": "(self, door)", "open_up": "(self, door)", "swung": "(self)",
+        "back": "(self)", "on": "(self)", "keep": "(self, goal, *, prices=(1, 1, 1, 1), most=2000)", "rest": "(self)",
+        "holds": "(self)", "mend": "(self, *, most=2000)",
+    }},
 }
 
 

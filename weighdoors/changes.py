@@ -57,6 +57,11 @@ def beside_stand(one, stand, other, second):
     return turn, rooms + more_rooms, tuple([place_of[stone] for stone in sorted(place_of)])
 
 
+def copied(hall):
+    """Tell a hall that is equal to the hall, a new one."""
+    return with_doors(hall, door_parts(hall))
+
+
 def with_doors(hall, doors):
     """Tell the hall with other doors."""
     return Hall(hall.rooms(), doors, stone_parts(hall), walker_parts(hall))

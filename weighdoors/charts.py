@@ -20,6 +20,10 @@ class Chart:
         """Tell the spot at a place."""
         return self._spots[at]
 
+    def place(self, spot):
+        """Tell the place of a spot that is found."""
+        return self._place_of[spot]
+
     def many(self):
         """Tell how many spots are found so far."""
         return len(self._spots)

@@ -110,8 +110,9 @@ def why_no_lay(hall, stand, stone):
 def swung(hall, stand, deed):
     """Tell the doors that a deed opens and those that it shuts, a tuple of two lists, rising."""
     behind = done(hall, stand, deed)
-    ahead_open = open_doors(hall, stand)
-    behind_open = open_doors(hall, behind)
-    opened = [door for door in behind_open if door not in ahead_open]
-    shut = [door for door in ahead_open if door not in behind_open]
-    return opened, shut
+    return swings(open_doors(hall, stand), open_doors(hall, behind))
+
+
+def swings(ahead, behind):
+    """Tell the doors opened and those shut, by the doors that stand open ahead and behind."""
+    return [door for door in behind if door not in ahead], [door for door in ahead if door not in behind]
