@@ -19,7 +19,8 @@ def lots(hall, stand, goal, word, *, most=MOST_SPOTS):
             answer = value(lot_play(hall, goal, word, lot), stand, most=most) is not None
             if word == "wall":
                 answer = not answer
-            does.update(implied(names, lot, answer))
+            for other in implied(names, lot, answer):
+                does[other] = answer
     least = [lot for lot in does if does[lot] and not any([does[less] for less in with_one_less(lot)])]
     greatest = [lot for lot in does if not does[lot] and all([does[more] for more in with_one_more(names, lot)])]
     return sorted(least), sorted(greatest)
@@ -82,10 +83,10 @@ def by_use(some):
 
 
 def implied(names, lot, answer):
-    """Tell what is known by the answer of a lot, a dict: what a lot does each greater one does."""
+    """Tell the lots that have the answer of a lot, too: what a lot does each greater one does."""
     if answer:
-        return {other: True for other in all_lots(names) if is_within(lot, other)}
-    return {other: False for other in all_lots(names) if is_within(other, lot)}
+        return [other for other in all_lots(names) if is_within(lot, other)]
+    return [other for other in all_lots(names) if is_within(other, lot)]
 
 
 def is_within(lot, other):
@@ -109,7 +110,9 @@ def lot_paper(hall, stand, goal, word, lot, *, most=MOST_SPOTS):
     play = lot_play(hall, goal, word, lot)
     comes = value(play, stand, most=most) is not None
     told = "does" if comes != (word == "wall") else "not"
-    return told, forcing(play, stand, most=most) if comes else barring(play, stand, most=most)
+    if comes:
+        return told, forcing(play, stand, most=most)
+    return told, barring(play, stand, most=most)
 
 
 def lot_holds(hall, stand, goal, word, lot, thing):
